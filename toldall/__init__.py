@@ -1,0 +1,1 @@
+"""Toldall: what parties know who tell one another all when they meet."""

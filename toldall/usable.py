@@ -1,0 +1,48 @@
+"""What raises NotUsable for the values of parameters that cannot be used."""
+
+from toldall.errors import NotUsable
+from toldall.kinds import is_book, is_machine, is_name, is_name_set, is_number
+from toldall.parts import all_parties
+
+
+def need_machine(machine):
+    """Refuse any value that is no machine."""
+    if not is_machine(machine):
+        raise NotUsable("machine", -1)
+
+
+def need_book(book):
+    """Refuse any value that is no book."""
+    if not is_book(book):
+        raise NotUsable("book", -1)
+
+
+def is_deed_name(machine, thing):
+    """Whether any value is the name of a deed of the machine."""
+    return is_name(thing) and any([deed[0] == thing for deed in machine[0]])
+
+
+def need_deed(machine, deed, word="deed"):
+    """Refuse any value that is no name of a deed of the machine."""
+    if not is_deed_name(machine, deed):
+        raise NotUsable(word, -1)
+
+
+def is_party(machine, thing):
+    """Whether any value is a party of the machine."""
+    return is_name(thing) and any([thing in deed[1] for deed in machine[0]])
+
+
+def need_parties(machine, parties):
+    """Refuse any value that is no nonempty set of parties of the machine."""
+    if not is_name_set(parties):
+        raise NotUsable("parties", -1)
+    known = all_parties(machine[0])
+    if not all([party in known for party in parties]):
+        raise NotUsable("parties", -1)
+
+
+def need_state(machine, state):
+    """Refuse any value that is no index of a state of the machine."""
+    if not is_number(state) or state >= len(machine[1]):
+        raise NotUsable("state", -1)

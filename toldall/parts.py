@@ -2,7 +2,7 @@
 
 
 def share_party(parties, others):
-    """Whether two sets of parties have a common one."""
+    """Whether some of the parties are among the others."""
     for party in parties:
         if party in others:
             return True

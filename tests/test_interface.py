@@ -25,15 +25,37 @@ FUNCTIONS = {
                   'longest_chain(book, row)'],
     'pasts': ['past_indexes(book, row, parties)', 'past_of(book, row, parties)', 'rest_of(book, row, parties)',
               'looks_alike(book, parties, row, other)'],
+    'orders': ['is_beginning(book, row, other)', 'common_row(book, row, other)', 'joined_row(book, row, other)'],
+    'sayingchecker': ['lets_saying(book, thing)'],
+    'sayingparts': ['parts_of_saying(saying)', 'facts_of(saying)', 'depth_of(saying)', 'is_positive(saying)',
+                    'party_sets(book)', 'marks_after(book, saying, run)'],
+    'sayingtexts': ['saying_text(saying)'],
+    'sayingreadings': ['saying_read(text)'],
 }
 
+# For each class its module, its parameters, its properties, and the methods that are signs or are used by them.
 CLASSES = {
-    'Book': ('(deeds, states)', ('deeds', 'states', 'parties', 'form'),
+    'Book': ('bookclasses', '(deeds, states)', ('deeds', 'states', 'parties', 'form'),
              ('__getitem__', '__contains__', '__len__', '__iter__', '__eq__', '__str__', '__call__', '__add__',
-              '__and__', '__sub__', 'parsed', 'free')),
-    'Listened': ('(book, *pairs)', ('whole',), ()),
-    'Merged': ('(deeds, states)', ('whole',), ()),
+              '__and__', '__sub__')),
+    'Listened': ('bookclasses', '(book, *pairs)', ('whole',), ()),
+    'Merged': ('bookclasses', '(deeds, states)', ('whole',), ()),
+    'Row': ('rowclasses', '(book, row=())', ('deeds_now',),
+            ('__len__', '__iter__', '__getitem__', '__contains__', '__str__', '__eq__', '__add__', '__radd__', '__mod__',
+             '__floordiv__', '__and__', '__or__', '__abs__')),
+    'Walker': ('walkers', '(book)', ('run_now', 'state_now', 'can_now', 'next_deed'), ('__iadd__',)),
 }
+
+# The other methods; static and class methods as they are called.
+METHODS = {
+    'Book': ('parsed(text)', 'free(*deeds)'),
+    'Row': ('begins_in(self, other)', 'read(book, text)'),
+    'Walker': ('do(self, deed)', 'set_next(self, deed)', 'back(self)', 'swap(self, k)', 'trial(self)',
+               'tried(self, *deeds)'),
+}
+
+BOUND = {'parsed': classmethod, 'free': staticmethod, 'read': classmethod}
+SETTERS = ('next_deed',)
 
 GENERATORS = ('runs_of', 'kinds_of_runs', 'alike_rows')
 
@@ -50,18 +72,27 @@ class InterfaceTest(unittest.TestCase):
                 self.assertEqual(inspect.isgeneratorfunction(function), name in GENERATORS)
 
     def test_classes(self):
-        module = importlib.import_module('toldall.bookclasses')
-        for name, (signature, properties, methods) in CLASSES.items():
-            made = getattr(module, name)
+        for name, (module, signature, properties, methods) in CLASSES.items():
+            made = getattr(importlib.import_module('toldall.' + module), name)
             self.assertEqual(str(inspect.signature(made)), signature)
-            self.assertEqual(made.__module__, 'toldall.bookclasses')
+            self.assertEqual(made.__module__, 'toldall.' + module)
             for each in properties:
                 self.assertIsInstance(vars(made)[each], property)
-                self.assertIsNone(vars(made)[each].fset)
+                self.assertEqual(vars(made)[each].fset is not None, each in SETTERS)
             for each in methods:
-                self.assertIn(each, vars(made))
-        self.assertIsInstance(vars(module.Book)['parsed'], classmethod)
-        self.assertIsInstance(vars(module.Book)['free'], staticmethod)
-        self.assertEqual(str(inspect.signature(module.Book.free)), '(*deeds)')
-        self.assertEqual(str(inspect.signature(module.Book.parsed)), '(text)')
+                self.assertTrue(inspect.isfunction(vars(made)[each]))
+
+    def test_methods(self):
+        for name, listed in METHODS.items():
+            made = getattr(importlib.import_module('toldall.' + CLASSES[name][0]), name)
+            for wanted in listed:
+                method = wanted.split('(')[0]
+                self.assertEqual(method + str(inspect.signature(getattr(made, method))), wanted)
+                if method in BOUND:
+                    self.assertIsInstance(vars(made)[method], BOUND[method])
+                else:
+                    self.assertTrue(inspect.isfunction(vars(made)[method]))
+
+    def test_derived_classes(self):
+        module = importlib.import_module('toldall.bookclasses')
         self.assertEqual((module.Listened.__bases__, module.Merged.__bases__), ((module.Book,), (module.Book,)))

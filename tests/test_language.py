@@ -19,8 +19,8 @@ WORDS = set('''type typing typing_extensions enum Enum IntEnum StrEnum Flag IntF
     namedtuple NamedTuple TypedDict TYPE_CHECKING abstractmethod register mro elements open input law version_info
     breakpoint compile copyright credits dir eval exec exit gc globals help id license locals os quit sys vars'''.split())
 
-MAGIC = set('''__init__ __eq__ __str__ __len__ __iter__ __call__ __add__ __sub__ __and__ __contains__
-    __getitem__'''.split())
+MAGIC = set('''__init__ __eq__ __str__ __len__ __iter__ __call__ __enter__ __exit__ __add__ __radd__ __iadd__ __sub__
+    __mod__ __floordiv__ __and__ __or__ __xor__ __rshift__ __invert__ __abs__ __contains__ __getitem__'''.split())
 
 CHANGES = ('append', 'pop', 'extend', 'insert', 'remove', 'clear', 'update', 'setdefault', 'reverse')
 
@@ -46,6 +46,12 @@ def bound_names(function):
     names += [each.arg for each in (arguments.vararg, arguments.kwarg) if each]
     return names + [node.id for node in ast.walk(function) if isinstance(node, ast.Name)
                     and isinstance(node.ctx, ast.Store)]
+
+
+def own_methods():
+    """The names of the methods of the package's classes."""
+    classes = [node for name, tree in trees() for node in tree.body if isinstance(node, ast.ClassDef)]
+    return {node.name for each in classes for node in each.body if isinstance(node, ast.FunctionDef)}
 
 
 class LanguageTest(unittest.TestCase):
@@ -142,10 +148,12 @@ class LanguageTest(unittest.TestCase):
                     self.assertNotIn(word, every | imports | classes, (name, function.name))
 
     def test_methods(self):
+        own = own_methods()
+        self.assertFalse(own & METHODS)
         for name, tree in trees():
             for node in ast.walk(tree):
                 if isinstance(node, ast.Call) and isinstance(node.func, ast.Attribute):
-                    self.assertIn(node.func.attr, METHODS | MAGIC, name)
+                    self.assertIn(node.func.attr, METHODS | MAGIC | own, name)
                     self.assertNotIn(node.func.attr, MAGIC - {'__init__'}, name)
                 if isinstance(node, ast.FunctionDef) and node.name.startswith('__'):
                     self.assertIn(node.name, MAGIC, name)

@@ -24,14 +24,7 @@ def least_row(book, row):
     """The least of the rows alike to the row."""
     need_book(book)
     need_row(book, row)
-    parties = dict(book[0])
-    done = []
-    left = row
-    while left:
-        name, k = min([(left[k], k) for k in first_indexes(parties, left)])
-        done.append(name)
-        left = left_without(left, k)
-    return tuple(done)
+    return least_alike(dict(book[0]), row)
 
 
 def alike_rows(book, row):
@@ -99,6 +92,17 @@ def rows_are_alike(deeds, row, other):
     """Whether two rows of these deeds are alike: each party's own deeds are the same in both."""
     parties = dict(deeds)
     return all([own_deeds(parties, row, each) == own_deeds(parties, other, each) for each in all_parties(deeds)])
+
+
+def least_alike(parties, row):
+    """The least of the rows alike to the row, by the parties of each deed."""
+    done = []
+    left = row
+    while left:
+        name, k = min([(left[k], k) for k in first_indexes(parties, left)])
+        done.append(name)
+        left = left_without(left, k)
+    return tuple(done)
 
 
 def first_indexes(parties, row):

@@ -35,3 +35,13 @@ def end_of_row(states, row, start=0):
         if at is None:
             return None
     return at
+
+
+def sets_of_parties(parties):
+    """All nonempty sets of ascending parties, ascending by size, then as tuples."""
+    found = []
+    latest = [()]
+    for _ in parties:
+        latest = [(*each, party) for each in latest for party in parties if not each or each[-1] < party]
+        found.extend(latest)
+    return tuple(found)

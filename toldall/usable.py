@@ -1,8 +1,9 @@
 """What raises NotUsable for the values of parameters that cannot be used."""
 
 from toldall.errors import NotUsable
-from toldall.kinds import is_book, is_machine, is_name, is_name_set, is_number, is_row
+from toldall.kinds import is_book, is_machine, is_name, is_name_set, is_number, is_row, is_saying
 from toldall.parts import all_parties, end_of_row, names_of
+from toldall.sayingforms import saying_fault
 
 
 def need_machine(machine):
@@ -84,3 +85,15 @@ def need_text(text):
     """Refuse any value that is no string."""
     if not isinstance(text, str):
         raise NotUsable("text", -1)
+
+
+def need_saying(book, saying, word="saying"):
+    """Refuse any value that is no saying of the book."""
+    if saying_fault(book, saying) is not None:
+        raise NotUsable(word, -1)
+
+
+def need_saying_form(saying):
+    """Refuse any value that has not the form of a saying."""
+    if not is_saying(saying):
+        raise NotUsable("saying", -1)

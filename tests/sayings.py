@@ -1,8 +1,10 @@
 """What tests of sayings share: books and sayings that the dice make, and slow answers by the words of the document."""
 
+import random
 from itertools import combinations
 
-from tests.cases import EITHER, FREE, ODD_DEEP, nested, slow_alike, slow_apart
+from tests.cases import (BOTH, EITHER, ODD_DEEP, has_exchange, nested, slow_alike, slow_apart, slow_end, slow_exchange,
+                         some_deeds)
 
 HEARD = ('knows', ('z',), ('done', 'a', 1))
 DONE = ('done', 'a', 1)
@@ -123,4 +125,157 @@ def beginnings(book, row):
     return {alike[:k] for alike in slow_alike(book, row) for k in range(len(row) + 1)}
 
 
-PAIRS = ((FREE, EITHER), (EITHER, FREE))
+def slow_past_row(book, row, parties):
+    """The past of the parties in a row, from the last deed on."""
+    own, met, past = dict(book[0]), set(parties), []
+    for name in reversed(row):
+        if met & set(own[name]):
+            met |= set(own[name])
+            past.append(name)
+    return tuple(reversed(past))
+
+
+def some_parts(dice, deeds, many, ends):
+    """For each party a small machine of its own; a deed is allowed in the book where it is in those of its parties."""
+    parties = sorted({party for deed in deeds for party in deed[1]})
+    return {party: [{deed[0]: dice.choice(list(ends(k))) for deed in deeds
+                     if party in deed[1] and list(ends(k)) and dice.random() < 0.8} for k in range(many)]
+            for party in parties}
+
+
+def put_together(deeds, parts):
+    """The book of small machines of the parties; its states are those that are reached."""
+    order, rows = [tuple(0 for _ in parts)], []
+    while len(rows) < len(order):
+        here, row = dict(zip(parts, order[len(rows)])), []
+        for name, own in deeds:
+            if all(name in parts[party][here[party]] for party in own):
+                there = tuple(parts[party][here[party]][name] if party in own else here[party] for party in parts)
+                if there not in order:
+                    order.append(there)
+                row.append((name, order.index(there)))
+        rows.append(tuple(row))
+    return deeds, tuple(rows)
+
+
+def some_put_together(seed, many, finite, deeds=4, parts=3, states=16, parties='wxyz'):
+    """Books that the dice put together; those that are finite have no run that goes on and on."""
+    dice = random.Random(seed)
+    found = []
+    while len(found) < many:
+        own = some_deeds(dice, 'abcdef', parties, deeds)
+        book = put_together(own, some_parts(dice, own, parts, lambda k: range(k + 1 if finite else 0, parts)))
+        if 3 <= len(book[1]) <= states and has_exchange(book):
+            found.append(book)
+    return found
+
+
+def all_runs(book):
+    """All runs of a book that has finitely many."""
+    runs = [()]
+    for run in runs:
+        runs += [(*run, name) for name, end in book[1][slow_end(book, run)]]
+    return runs
+
+
+class Slow:
+    """What holds at the runs of a finite book, by the words of [5] and [6]."""
+
+    def __init__(self, book):
+        self.book = book
+        self.runs = all_runs(book)
+        self.seen = {}
+        self.known = {}
+
+    def view(self, run, parties):
+        """The same for just those runs that look alike to the parties."""
+        if (run, parties) not in self.seen:
+            self.seen[run, parties] = slow_alike(self.book, slow_past_row(self.book, run, parties))[0]
+        return self.seen[run, parties]
+
+    def twins(self, run, parties):
+        """The runs that look alike to the parties."""
+        return [other for other in self.runs if self.view(other, parties) == self.view(run, parties)]
+
+    def holds(self, saying, run):
+        if (saying, run) not in self.known:
+            self.known[saying, run] = self.told(saying, run)
+        return self.known[saying, run]
+
+    def told(self, saying, run):
+        word = saying[0]
+        if word == 'knows':
+            return all([self.holds(saying[2], other) for other in self.twins(run, saying[1])])
+        return slow_plain(self.book, saying, run, self.holds)
+
+
+def slow_plain(book, saying, run, holds):
+    """Whether a saying that is no "knows" holds, by whether those within it do."""
+    word = saying[0]
+    if word == 'not':
+        return not holds(saying[1], run)
+    if word == 'and':
+        return holds(saying[1], run) and holds(saying[2], run)
+    if word == 'or':
+        return holds(saying[1], run) or holds(saying[2], run)
+    if word == 'at':
+        return slow_end(book, run) in saying[1]
+    if word == 'done':
+        return run.count(saying[1]) >= saying[2]
+    if word == 'modulo':
+        return run.count(saying[1]) % saying[2] == saying[3]
+    return slow_mark(saying, run) == 1
+
+
+class Near:
+    """What holds at the runs of any book, by (T4), where a few deeds more tell all that can be told."""
+
+    def __init__(self, book, most):
+        self.book = book
+        self.most = most
+        self.known = {}
+        self.rows = {}
+
+    def behind(self, past, parties):
+        """The runs that consist of a past and then of at most so many deeds without the parties."""
+        if (past, parties) not in self.rows:
+            names = [name for name, own in self.book[0] if not set(own) & set(parties)]
+            runs = [past]
+            for run in runs:
+                if len(run) < len(past) + self.most:
+                    runs += [(*run, name) for name in names if slow_end(self.book, (*run, name)) is not None]
+            self.rows[past, parties] = sorted({slow_alike(self.book, run)[0] for run in runs})
+        return self.rows[past, parties]
+
+    def holds(self, saying, run):
+        if (saying, run) not in self.known:
+            self.known[saying, run] = self.told(saying, run)
+        return self.known[saying, run]
+
+    def told(self, saying, run):
+        if saying[0] == 'knows':
+            runs = self.behind(slow_past_row(self.book, run, saying[1]), saying[1])
+            return all([self.holds(saying[2], other) for other in runs])
+        return slow_plain(self.book, saying, run, self.holds)
+
+
+def some_steep(seed, many, deeds=3, states=6):
+    """Finite books that the dice make, in which what one party does may bar others."""
+    dice = random.Random(seed)
+    found = []
+    while len(found) < many:
+        own = some_deeds(dice, 'abcde', 'xyz', deeds)
+        rows = [tuple((deed[0], dice.randrange(k + 1, states)) for deed in own if k + 1 < states and dice.random() < 0.5)
+                for k in range(states)]
+        book = (own, tuple(rows))
+        if slow_exchange(book) is None and has_exchange(book):
+            found.append(book)
+    return found
+
+
+# No run leads to the states 3 and 4.
+PLACES = (EITHER[0], ((('a', 1), ('b', 2)), (), (), (('a', 1),), (('b', 4),)))
+
+
+def finite_books(seed, many=5):
+    return [EITHER, BOTH, PLACES, *some_steep(seed, many), *some_put_together(seed + 1, many, True)]

@@ -31,6 +31,11 @@ FUNCTIONS = {
                     'party_sets(book)', 'marks_after(book, saying, run)'],
     'sayingtexts': ['saying_text(saying)'],
     'sayingreadings': ['saying_read(text)'],
+    'holding': ['holds_at(book, saying, run)', 'who_know(book, saying, run)', 'twin_of(book, parties, saying, run)'],
+    'tables': ['told_tables(book, saying)'],
+    'tablechecker': ['lets_tables(book, saying, thing)'],
+    'deciding': ['holds_always(book, saying)', 'failing_run(book, saying)', 'holding_run(book, saying)'],
+    'coming': ['knows_from(book, party, saying)', 'coming_paper(book, party, saying)'],
 }
 
 # For each class its module, its parameters, its properties, and the methods that are signs or are used by them.
@@ -44,6 +49,9 @@ CLASSES = {
             ('__len__', '__iter__', '__getitem__', '__contains__', '__str__', '__eq__', '__add__', '__radd__', '__mod__',
              '__floordiv__', '__and__', '__or__', '__abs__')),
     'Walker': ('walkers', '(book)', ('run_now', 'state_now', 'can_now', 'next_deed'), ('__iadd__',)),
+    'Saying': ('sayingclasses', '(book, form)', ('form', 'facts', 'depth'),
+               ('__invert__', '__and__', '__or__', '__xor__', '__rshift__', '__call__', '__len__', '__contains__',
+                '__eq__', '__str__')),
 }
 
 # The other methods; static and class methods as they are called.
@@ -52,9 +60,10 @@ METHODS = {
     'Row': ('begins_in(self, other)', 'read(book, text)'),
     'Walker': ('do(self, deed)', 'set_next(self, deed)', 'back(self)', 'swap(self, k)', 'trial(self)',
                'tried(self, *deeds)'),
+    'Saying': ('known(self, parties)', 'read(book, text)', 'happened(book, deed, n=1)'),
 }
 
-BOUND = {'parsed': classmethod, 'free': staticmethod, 'read': classmethod}
+BOUND = {'parsed': classmethod, 'free': staticmethod, 'read': classmethod, 'happened': classmethod}
 SETTERS = ('next_deed',)
 
 GENERATORS = ('runs_of', 'kinds_of_runs', 'alike_rows')

@@ -2,7 +2,7 @@
 
 from toldall.errors import InvalidText, NotUsable
 from toldall.exchanges import least_alike, rounds_of
-from toldall.kinds import is_name, is_number
+from toldall.kinds import is_number
 from toldall.orders import common_row, is_beginning, joined_row
 from toldall.parts import names_of
 from toldall.pasts import past_of, rest_of
@@ -37,7 +37,7 @@ class Row:
 
     def __contains__(self, x):
         """Whether any value is the name of one of the deeds."""
-        return is_name(x) and x in self._least
+        return x in self._least
 
     def __str__(self):
         if len(self._least) == 0:

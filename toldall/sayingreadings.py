@@ -33,12 +33,10 @@ def most_open(text):
 
 def form_written(text):
     """What a text writes that may be a saying, None where it surely is none."""
-    word, begun, inner = text.partition("(")
-    if not begun or not inner.endswith(")"):
+    word, _, inner = text.partition("(")
+    if not inner.endswith(")"):
         return None
     words = words_within(inner[:-1])
-    if words is None:
-        return None
     if word in ("not", "and", "or"):
         return (word, *[form_written(each) for each in words])
     if word == "knows":
@@ -51,15 +49,19 @@ def form_written(text):
 
 
 def words_within(text):
-    """The words of a text between the commas that stand in no brackets, None if these do not fit."""
+    """The words of a text between the commas that stand in no brackets.
+
+    Brackets that do not fit remain in a word, which then writes neither a name nor a number nor a saying.
+    """
     words = [""]
     many = 0
     for sign in text:
-        many = many + (1 if sign == "(" else 0) - (1 if sign == ")" else 0)
-        if many < 0:
-            return None
+        if sign == "(":
+            many = many + 1
+        elif sign == ")":
+            many = many - 1
         if sign == "," and many == 0:
             words.append("")
         else:
             words[-1] = words[-1] + sign
-    return words if many == 0 else None
+    return words

@@ -13,6 +13,7 @@ class Walker:
         need_book(book)
         self._book = book
         self._run = ()
+        self._kept = None
 
     @property
     def run_now(self):
@@ -76,8 +77,17 @@ class Walker:
         return self._run
 
     def trial(self):
-        """What takes back, at the end of a block, all that was done in it."""
-        return Trial(self)
+        """The walker, which takes back, at the end of a block, all that was done in it."""
+        return self
+
+    def __enter__(self):
+        self._kept = Moment(self._run, self._kept)
+        return self
+
+    def __exit__(self, kind, value, trace):
+        kept = self._kept
+        self._run = kept.run
+        self._kept = kept.before
 
     def tried(self, *deeds):
         """The state to which the run would lead with these deeds more."""
@@ -89,25 +99,8 @@ class Walker:
         return at
 
 
-class Trial:
-    """A block at the end of which the run of a walker is as it was at the beginning."""
-
-    def __init__(self, walker):
-        self._walker = walker
-        self._kept = None
-
-    def __enter__(self):
-        self._kept = Moment(self._walker.run_now, self._kept)
-        return self._walker
-
-    def __exit__(self, kind, value, trace):
-        walker = self._walker
-        walker._run = self._kept.run
-        self._kept = self._kept.before
-
-
 class Moment:
-    """A run as it was, and the moment that was kept before, where a block of the same trial stands around."""
+    """A run as it was at the beginning of a block, and the moment of the block around it, if there is one."""
 
     def __init__(self, run, before):
         self.run = run

@@ -74,6 +74,21 @@ def saying_of_depth(dice, book, depth, size=6):
             return saying
 
 
+def slow_positive(saying, even=True):
+    """Whether above each "knows" the number of "not" is even."""
+    if saying[0] == 'knows' and not even:
+        return False
+    return all(slow_positive(inner, even != (saying[0] == 'not')) for inner in within(saying))
+
+
+def some_positive(dice, book, depth, size=6):
+    """A positive saying of just this depth."""
+    while True:
+        saying = saying_of_depth(dice, book, depth, size)
+        if slow_positive(saying):
+            return saying
+
+
 def within(saying):
     """The sayings directly within a saying."""
     return {'not': saying[1:], 'and': saying[1:], 'or': saying[1:], 'knows': saying[2:]}.get(saying[0], ())

@@ -8,6 +8,7 @@ from toldall.holding import who_know
 from toldall.runs import is_run
 from toldall.tablechecker import lets_tables
 from tests.cases import EITHER, FREE, LOOSE, Case, slow_runs
+from tests.papers import own_deeds
 from tests.sayings import (DONE, HEARD, NO_SAYINGS, PLACES, Slow, finite_books, parties_of_book, saying_of_depth,
                            some_put_together)
 from tests.test_bookchanges import NO_BOOKS
@@ -22,10 +23,6 @@ FIRST = (THEN[0], ((('b', 1), ('c', 0)), (('a', 1), ('c', 1))))
 
 # As THEN, but x and y meet at any time, too.
 MEET = ((*THEN[0], ('m', ('x', 'y'))), ((('a', 0), ('b', 1), ('c', 0), ('m', 0)), (('c', 1), ('m', 1))))
-
-
-def own_deeds(book, party, row):
-    return len([name for name in row if party in dict(book[0])[name]])
 
 
 class ComingTest(Case):

@@ -36,6 +36,14 @@ FUNCTIONS = {
     'tablechecker': ['lets_tables(book, saying, thing)'],
     'deciding': ['holds_always(book, saying)', 'failing_run(book, saying)', 'holding_run(book, saying)'],
     'coming': ['knows_from(book, party, saying)', 'coming_paper(book, party, saying)'],
+    'comingchecker': ['lets_coming(book, party, saying, thing)'],
+    'soonest': ['soonest_row(book, parties, saying, run)'],
+    'guards': ['guarded_book(book, *pairs)'],
+    'keeping': ['keeps_itself(book)', 'slip_of(book)'],
+    'listening': ['possible_listeners(book)', 'least_listeners(book, saying, pool)', 'greatest_others(book, saying, pool)',
+                  'listener_paper(book, saying, pool)'],
+    'listenerchecker': ['lets_listeners(book, saying, pool, thing)'],
+    'likeness': ['are_alike_to(book, other, parties)', 'parting_past(book, other, parties)'],
 }
 
 # For each class its module, its parameters, its properties, and the methods that are signs or are used by them.

@@ -8,6 +8,7 @@ from toldall.holding import holds_at
 from toldall.tablechecker import lets_tables
 from toldall.tables import told_tables
 from tests.cases import BOTH, EITHER, FREE, LOOSE, ODD_DEEP, Case, slow_runs
+from tests.papers import paths_in, put, value_at
 from tests.sayings import (DONE, HEARD, NO_SAYINGS, PLACES, chain, finite_books, parties_of_book, saying_of_depth,
                            slow_facts, some_put_together)
 from tests.test_bookchanges import NO_BOOKS
@@ -34,29 +35,6 @@ def cases(seed, depths=(0, 1, 1, 2, 2, 3), size=5):
     dice = random.Random(seed)
     books = [FREE, LOOSE, *finite_books(seed + 1, 3), *some_put_together(seed + 2, 3, False, deeds=3, parts=2, states=8)]
     return [(book, saying_of_depth(dice, book, depth, size)) for book in books for depth in depths]
-
-
-def put(thing, path, value):
-    """The tables with another value at the place, a value of None left out."""
-    if len(path) == 1:
-        return thing[:path[0]] + (() if value is None else (value,)) + thing[path[0] + 1:]
-    return put(thing, path[:1], put(thing[path[0]], path[1:], value))
-
-
-def paths_in(thing):
-    """The places of all values within tuples."""
-    found = []
-    for k, each in enumerate(thing):
-        found.append((k,))
-        if isinstance(each, tuple):
-            found += [(k, *path) for path in paths_in(each)]
-    return found
-
-
-def value_at(thing, path):
-    for k in path:
-        thing = thing[k]
-    return thing
 
 
 class TablesTest(Case):

@@ -12,7 +12,12 @@ def with_listener(book, deed, party):
     need_deed(book, deed)
     if not can_listen(book, deed, party):
         raise NotUsable("party", -1)
-    deeds = [(name, (*own, party) if name == deed else own) for name, own in book[0]]
+    return book_with(book, ((deed, party),))
+
+
+def book_with(book, listeners):
+    """The book with some listeners: pairs of a deed and a party that the deed does not have."""
+    deeds = [(name, [*own, *[party for deed, party in listeners if deed == name]]) for name, own in book[0]]
     return tuple([(name, tuple(sorted(own))) for name, own in deeds]), book[1]
 
 

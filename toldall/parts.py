@@ -37,11 +37,11 @@ def end_of_row(states, row, start=0):
     return at
 
 
-def sets_of_parties(parties):
-    """All nonempty sets of ascending parties, ascending by size, then as tuples."""
+def nonempty_sets(things):
+    """All nonempty sets of ascending things, ascending by size, then as tuples."""
     found = []
     latest = [()]
-    for _ in parties:
-        latest = [(*each, party) for each in latest for party in parties if not each or each[-1] < party]
+    for _ in things:
+        latest = [(*each, thing) for each in latest for thing in things if not each or each[-1] < thing]
         found.extend(latest)
     return tuple(found)

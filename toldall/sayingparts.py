@@ -1,7 +1,7 @@
 """The parts of sayings, the sets of parties, and the marks of runs."""
 
 from toldall.marks import marks_of_row
-from toldall.parts import all_parties, sets_of_parties
+from toldall.parts import all_parties, nonempty_sets
 from toldall.sayingforms import depth_within, facts_within, parts_within
 from toldall.usable import need_book, need_run, need_saying, need_saying_form
 
@@ -34,7 +34,7 @@ def is_positive(saying):
 def party_sets(book):
     """All nonempty sets of parties of the book, ascending by size, then as tuples."""
     need_book(book)
-    return sets_of_parties(all_parties(book[0]))
+    return nonempty_sets(all_parties(book[0]))
 
 
 def marks_after(book, saying, run):

@@ -9,13 +9,19 @@ from toldall.usable import need_text
 def saying_read(text):
     """The saying by form that a string writes; InvalidRow if it writes none."""
     need_text(text)
-    if most_open(text) > 30:
-        raise InvalidRow(text)
-    form = form_written(text)
-    # Names, numbers and sets are looked at here: what is none of them makes no saying.
-    if not is_saying(form):
+    form = saying_written(text)
+    if form is None:
         raise InvalidRow(text)
     return form
+
+
+def saying_written(text):
+    """The saying by form that a string writes, None if it writes none."""
+    if most_open(text) > 30:
+        return None
+    form = form_written(text)
+    # Names, numbers and sets are looked at here: what is none of them makes no saying.
+    return form if is_saying(form) else None
 
 
 def most_open(text):

@@ -6,7 +6,7 @@ nexts. What stands ahead of the nexts is here called its key; the key of a next 
 
 from toldall.kinds import inner_sayings, is_fact
 from toldall.marks import fact_holds, marks_behind
-from toldall.parts import all_parties, names_of, sets_of_parties, share_party, step_behind
+from toldall.parts import all_parties, names_of, nonempty_sets, share_party, step_behind
 from toldall.sayingforms import depth_within, facts_within, parts_within
 
 
@@ -38,7 +38,7 @@ def built_level(book, facts, turns, below):
 
 def link_turns(deeds):
     """For each deed a list: for each party set the place of that with the deed's parties, too, or -1 if it has none."""
-    sets = sets_of_parties(all_parties(deeds))
+    sets = nonempty_sets(all_parties(deeds))
     places = {each: k for k, each in enumerate(sets)}
     return [turns_by(sets, places, own) for name, own in deeds]
 
@@ -104,7 +104,7 @@ class Tables:
         self._deeds = book[0]
         self._facts = facts
         self._levels = levels
-        self._sets = sets_of_parties(all_parties(book[0]))
+        self._sets = nonempty_sets(all_parties(book[0]))
         self._lowest = lowest_stands(levels)
 
     def truths_of_part(self, part, at, inner):

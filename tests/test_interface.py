@@ -43,6 +43,10 @@ FUNCTIONS = {
     'listening': ['possible_listeners(book)', 'least_listeners(book, saying, pool)', 'greatest_others(book, saying, pool)',
                   'listener_paper(book, saying, pool)'],
     'listenerchecker': ['lets_listeners(book, saying, pool, thing)'],
+    'houseevents': ['is_event(thing)'],
+    'houselogs': ['is_log(thing)', 'replayed(log)'],
+    'housetexts': ['event_line(event)', 'log_lines(log)'],
+    'housereadings': ['read_event(text)', 'read_log(lines)'],
     'likeness': ['are_alike_to(book, other, parties)', 'parting_past(book, other, parties)'],
 }
 
@@ -60,6 +64,11 @@ CLASSES = {
     'Saying': ('sayingclasses', '(book, form)', ('form', 'facts', 'depth'),
                ('__invert__', '__and__', '__or__', '__xor__', '__rshift__', '__call__', '__len__', '__contains__',
                 '__eq__', '__str__')),
+    'Telling': ('tellingclasses', '(book, saying)', ('book', 'saying', 'numbers'),
+                ('__getitem__', '__contains__', '__len__', '__iter__', '__str__', '__call__', '__eq__')),
+    'House': ('houses', '(book)', ('run_now', 'book_now', 'listeners_now', 'watched_now', 'guards_now', 'mark_now'),
+              ('__setitem__', '__getitem__', '__iadd__', '__contains__', '__len__', '__eq__')),
+    'Desk': ('desks', '(book)', (), ()),
 }
 
 # The other methods; static and class methods as they are called.
@@ -69,10 +78,18 @@ METHODS = {
     'Walker': ('do(self, deed)', 'set_next(self, deed)', 'back(self)', 'swap(self, k)', 'trial(self)',
                'tried(self, *deeds)'),
     'Saying': ('known(self, parties)', 'read(book, text)', 'happened(book, deed, n=1)'),
+    'Telling': ('soonest(self, party, run)', 'sooner_than(self, other)'),
+    'House': ('happen(self, event)', 'do_deed(self, deed)', 'listen(self, deed, party)', 'watch(self, saying)',
+              'drop(self, saying)', 'mark(self, name)', 'barred(self, event)', 'tried(self, *events)', 'trial(self)',
+              'undo(self)', 'do_all(self, *events, keep=False)', 'counts(self)', 'can_do(self)', 'knowers(self, saying)',
+              'holds(self, saying)', 'together(self, parties, saying)', 'twin(self, parties, saying)',
+              'past(self, parties)', 'news(self, *, lost=False)', 'done_since(self, name)', 'tally(self)',
+              'table(self)', 'log(self)'),
+    'Desk': ('say(self, row)', 'counts(self)'),
 }
 
 BOUND = {'parsed': classmethod, 'free': staticmethod, 'read': classmethod, 'happened': classmethod}
-SETTERS = ('next_deed',)
+SETTERS = ('next_deed', 'mark_now')
 
 GENERATORS = ('runs_of', 'kinds_of_runs', 'alike_rows')
 
@@ -109,6 +126,9 @@ class InterfaceTest(unittest.TestCase):
                     self.assertIsInstance(vars(made)[method], BOUND[method])
                 else:
                     self.assertTrue(inspect.isfunction(vars(made)[method]))
+
+    def test_class_values(self):
+        self.assertEqual(vars(importlib.import_module('toldall.houses').House)['MOST'], 40)
 
     def test_derived_classes(self):
         module = importlib.import_module('toldall.bookclasses')

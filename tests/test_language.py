@@ -20,7 +20,7 @@ WORDS = set('''type typing typing_extensions enum Enum IntEnum StrEnum Flag IntF
     breakpoint compile copyright credits dir eval exec exit gc globals help id license locals os quit sys vars'''.split())
 
 MAGIC = set('''__init__ __eq__ __str__ __len__ __iter__ __call__ __enter__ __exit__ __add__ __radd__ __iadd__ __sub__
-    __mod__ __floordiv__ __and__ __or__ __xor__ __rshift__ __invert__ __abs__ __contains__ __getitem__'''.split())
+    __mod__ __floordiv__ __and__ __or__ __xor__ __rshift__ __invert__ __abs__ __contains__ __getitem__ __setitem__'''.split())
 
 CHANGES = ('append', 'pop', 'extend', 'insert', 'remove', 'clear', 'update', 'setdefault', 'reverse')
 

@@ -217,6 +217,23 @@ class ComingCheckerTest(Case):
         self.bad_paper('ring', -1, lets_coming, FREE, 'x', DONE, ('ring', (), ('n',), ('a',), tables))
         self.bad_paper('ring', -1, lets_coming, FREE, 'x', DONE, ('ring', (), ('a',), ('a',), tables))
 
+    def test_run_behind_which_the_party_knows(self):
+        # x does a or c, once.
+        book = ((('a', ('x',)), ('c', ('x',))), ((('a', 1), ('c', 2)), (), ()))
+        word, number, run, tables, bounds = coming_paper(book, 'x', DONE)
+        self.same([word, number, run, lets_coming(book, 'x', DONE, (word, number, run, tables, bounds))], ['most', 1, ('c',), 2])
+        self.bad_paper('run', -1, lets_coming, book, 'x', DONE, (word, number, ('a',), tables, bounds))
+        self.bad_paper('run', -1, lets_coming, book, 'x', DONE, (word, number, (), tables, bounds))
+
+    def test_shapes_come_ahead_of_tables(self):
+        word, number, run, tables, bounds = coming_paper(EITHER, 'y', NEVER)
+        bad = (tables[0][:1], tables[1])
+        self.bad_paper('stand', (0, 0), lets_coming, EITHER, 'y', NEVER, (word, number, run, bad, bounds))
+        for thing in ((word, number, 'b', bad, bounds), (word, number, ['b'], bad, bounds), (word, True, run, bad, bounds),
+                      (word, number, run, bad, (True,)), (word, number, run, bad, ['sure']), ('ring', 'b', (), (), bad),
+                      ('ring', (), 'b', (), bad), ('ring', (), (), ['b'], bad), ('always', bad, ())):
+            self.bad_paper('shape', -1, lets_coming, EITHER, 'y', NEVER, thing)
+
     def test_long_rows(self):
         word, run, ring, rest, tables = coming_paper(FREE, 'z', DONE)
         self.same(lets_coming(FREE, 'z', DONE, ('ring', ('n', 'm') * 150, ('n', 'm', 'n') * 200, ('n',) * 99, tables)), None)

@@ -99,6 +99,12 @@ class ReasonTest(Case):
         house.watch(DONE)
         self.same(self.reasons(house, ('watch', DONE), ('do', 'b'), ('free', 'a'), ('free', 'zz')), ['same', 'barred', 'same', 'deed'])
 
+    def test_moments_called_as_deeds_and_parties(self):
+        house = House(FREE)
+        house.do_all(('mark', 'a'), ('mark', 'x'), ('mark', 'do'), ('guard', 'm', DONE))
+        self.same(self.reasons(house, ('do', 'a'), ('listen', 'a', 'y'), ('guard', 'a', DONE), ('free', 'm'), ('mark', 'm')), [None] * 5)
+        self.same(self.reasons(house, ('mark', 'a'), ('mark', 'do')), ['twice'] * 2)
+
     def test_full(self):
         house = House(FREE)
         house.do_all(('watch', DONE), ('mark', 'one'), ('guard', 'n', HEARD), *[('do', 'a')] * 36)

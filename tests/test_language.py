@@ -172,3 +172,31 @@ class LanguageTest(unittest.TestCase):
                         self.assertNotIn(node.id, over, name)
                     if isinstance(node, ast.Subscript) and isinstance(node.ctx, ast.Store):
                         self.assertNotIn(ast.unparse(node.value), over, name)
+
+    def test_finally_and_exit_only_assign(self):
+        found = 0
+        for name, tree in trees():
+            blocks = [node.finalbody for node in ast.walk(tree) if isinstance(node, ast.Try) and node.finalbody]
+            blocks += [function.body for function in functions(tree) if function.name == '__exit__']
+            for row in [row for block in blocks for row in block]:
+                found += 1
+                self.assertIsInstance(row, ast.Assign, name)
+                for side in (*row.targets, row.value):
+                    self.assertIsInstance(side, (ast.Name, ast.Attribute), name)
+        self.assertGreater(found, 0)
+
+    def test_functions_in_tables_are_named_before_they_are_called(self):
+        for name, tree in trees():
+            for node in ast.walk(tree):
+                if isinstance(node, ast.Call):
+                    self.assertIsInstance(node.func, (ast.Name, ast.Attribute), name)
+                    for each in node.args:
+                        if isinstance(each, ast.Starred):
+                            self.assertIsInstance(each.value, ast.Name, name)
+
+    def test_classes_with_items_are_iterated_or_refuse_it(self):
+        for name, tree in trees():
+            for node in tree.body:
+                if isinstance(node, ast.ClassDef):
+                    own = [row.name for row in node.body if isinstance(row, ast.FunctionDef)]
+                    self.assertTrue('__iter__' in own or '__getitem__' not in own, (name, node.name))

@@ -18,6 +18,7 @@ from tests.papers import listened, put, slow_listener_fault, slow_pool_sets
 from tests.sayings import (DONE, HEARD, NO_SAYINGS, PLACES, Slow, chain, finite_books, parties_of_book, some_positive,
                            some_put_together)
 from tests.test_bookchanges import NO_BOOKS
+from tests.test_runs import FOUR
 from tests.told import check_tables, others_tables, slow_truth
 
 TOLD = ('or', ('not', ('done', 'a', 1)), ('knows', ('y',), ('done', 'a', 1)))
@@ -97,6 +98,17 @@ class ListeningTest(Case):
         # Of a book in which a and b bar each other, who listens to the one knows of the other.
         either = ('or', ('not', DONE), ('knows', ('y',), ('or', DONE, ('done', 'b', 1))))
         self.same(least_listeners(EITHER, either, POOL[1:]), ())
+
+    def test_sets_ascend_as_tuples(self):
+        # x and y hear of a, or w of d: the set with two listeners is the least tuple.
+        told = ('or', ('not', DONE), ('and', ('knows', ('x',), DONE), ('knows', ('y',), DONE)))
+        saying = ('or', told, ('or', ('not', ('done', 'd', 1)), ('knows', ('w',), ('done', 'd', 1))))
+        pool = (('a', 'x'), ('a', 'y'), ('d', 'w'))
+        self.same([least_listeners(FOUR, saying, pool), greatest_others(FOUR, saying, pool)],
+                  [(pool[:2], pool[2:]), (pool[:1], pool[1:2])])
+        paper = listener_paper(FOUR, saying, pool)
+        self.same(lets_listeners(FOUR, saying, pool, paper), (pool[:2], pool[2:]))
+        self.bad_paper('set', (0, 1), lets_listeners, FOUR, saying, pool, (paper[0][::-1], paper[1]))
 
     def test_against_all_sets_of_the_pool(self):
         told = {}

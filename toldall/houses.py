@@ -167,9 +167,8 @@ class House:
         """For the watched sayings the parties that know them since the last deed, or do not any more."""
         if not isinstance(lost, bool):
             raise NotUsable("lost", -1)
+        # Ahead of all deeds the run without its last one is the same, so nothing is new.
         book, run = self.book_now, self.run_now
-        if len(run) == 0:
-            return ()
         pairs = [(saying, told_by_last(book, saying, run, lost)) for saying in self.watched_now]
         return tuple([(saying, parties) for saying, parties in pairs if parties])
 
